@@ -1,0 +1,1 @@
+"""Byestand: an evening of tables, packets and pairs."""
