@@ -21,6 +21,12 @@ METHODS = set(
     "setdefault split splitlines startswith strip update upper values zfill bit_length add discard sort".split()
 )
 UNUSED = set("register mro elements open input version_info with_traceback add_note format format_map".split())
+NO_NAMES = set(
+    "attrgetter breakpoint builtins compile copyright credits delattr dir eval exec exit gc getattr globals hasattr "
+    "help id importlib license locals methodcaller os quit setattr super type vars sys".split()
+)
+WALKED = {"zip", "enumerate", "reversed", "range"}
+WALKERS = set("list tuple dict sorted sum any all enumerate zip bytes min max".split())
 NO_WORDS = re.compile(
     r"\b(type|typing|typing_extensions|enum|Enum|IntEnum|StrEnum|Flag|IntFlag|Generic|Protocol|ABC|ABCMeta"
     r"|namedtuple|NamedTuple|TypedDict|TYPE_CHECKING|abstractmethod)\b|dataclass|overload|contextmanager"
@@ -49,6 +55,30 @@ def nodes(*kinds):
 
 def parameters(node):
     return [one.arg for one in node.args.args + node.args.kwonlyargs]
+
+
+def is_walked(node):
+    """True for a call of what is walked on the spot and not kept."""
+    if not isinstance(node, ast.Call):
+        return False
+    if isinstance(node.func, ast.Attribute):
+        return node.func.attr in {"items", "keys", "values"}
+    return isinstance(node.func, ast.Name) and node.func.id in WALKED
+
+
+def walkers(tree):
+    """Whatever stands in a place where it is walked on the spot."""
+    for node in ast.walk(tree):
+        if isinstance(node, (ast.For, ast.comprehension)):
+            yield node.iter
+        elif isinstance(node, ast.Call) and isinstance(node.func, ast.Name) and node.func.id in WALKERS:
+            yield from node.args[:1]
+
+
+def drawn_files(tree):
+    """The files that a file draws from, each with the name that is drawn."""
+    rows = [node for node in tree.body if isinstance(node, ast.ImportFrom)]
+    return [(row.module.split(".")[-1] + ".py", alias.name) for row in rows for alias in row.names]
 
 
 def bound_names(node):
@@ -106,6 +136,29 @@ class Forms(unittest.TestCase):
             self.assertTrue((node.module or "").startswith("byestand."), (name, node.module))
             self.assertNotIn("*", [alias.name for alias in node.names])
 
+    def test_names_are_drawn_from_the_file_that_defines_them(self):
+        tops = {path.name: tree.body for path, tree in TREES}
+        for path, tree in TREES:
+            for file, word in drawn_files(tree):
+                defs = [node.name for node in tops[file] if isinstance(node, (ast.FunctionDef, ast.ClassDef))]
+                values = [node.targets[0].id for node in tops[file] if isinstance(node, ast.Assign)]
+                self.assertIn(word, defs + values, (path.name, file))
+
+    def test_no_two_files_draw_from_one_another(self):
+        left = {path.name: {file for file, _ in drawn_files(tree)} for path, tree in TREES}
+        while left:
+            free = [name for name, files in left.items() if not files & set(left)]
+            self.assertTrue(free, left)
+            for name in free:
+                del left[name]
+
+    def test_what_is_walked_is_walked_on_the_spot(self):
+        for path, tree in TREES:
+            walked = [id(node) for node in walkers(tree)]
+            for node in ast.walk(tree):
+                if is_walked(node):
+                    self.assertIn(id(node), walked, (path.name, node.lineno))
+
     def test_the_top_binds_each_name_once(self):
         for path, tree in TREES:
             names = []
@@ -136,6 +189,8 @@ class Names(unittest.TestCase):
             if word not in SPECIAL:
                 self.assertRegex(word, r"^[A-Za-z][A-Za-z0-9_]*$", (name, node.lineno))
             self.assertNotIn(word, UNUSED, (name, node.lineno))
+            if not isinstance(node, ast.Attribute):
+                self.assertNotIn(word, NO_NAMES, (name, node.lineno))
 
     def test_pythons_own_names(self):
         for name, node in nodes(ast.Name):
