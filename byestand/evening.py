@@ -58,10 +58,6 @@ class Standing:
             return self.sittings[at]
         return self.names
 
-    def whats(self):
-        """What the slips that are not struck have, by their places (round, table, packet)."""
-        return {slip[:3]: slip[3] for slip in self.handed if slip[3] != STRUCK}
-
 
 class Evening:
     """An evening over a plan, with as many packets in each set."""
@@ -134,7 +130,7 @@ class Evening:
         self.need_packet(packet)
         if not self.plays(at, table):
             raise Out()
-        if (at, table, packet) in self.now.whats():
+        if (at, table, packet) in self.whats():
             raise Scored()
 
     def hand_in(self, deed, slip):
@@ -256,6 +252,10 @@ class Evening:
         """All slips (number, round, table, packet, what), also those struck."""
         return [(number,) + slip for number, slip in enumerate(self.now.handed)]
 
+    def whats(self):
+        """What each slip that is not struck has, by its place (round, table, packet)."""
+        return {slip[:3]: slip[3] for slip in self.now.handed if slip[3] != STRUCK}
+
     def playing(self):
         """All places (round, table, packet) of tables that play, rising."""
         found = []
@@ -267,5 +267,5 @@ class Evening:
 
     def gaps(self):
         """All places that are open, rising."""
-        whats = self.now.whats()
+        whats = self.whats()
         return [place for place in self.playing() if place not in whats]

@@ -8,6 +8,7 @@ import itertools
 import random
 import re
 from fractions import Fraction
+from math import gcd
 
 from byestand.evening import Evening
 from byestand.plans import Plan
@@ -15,13 +16,33 @@ from byestand.plans import Plan
 from moves import SIXTY, rows_of
 
 NAME = re.compile(r"[a-z][a-z0-9]{0,7}\Z")
+NUMBER = r"(0|-?[1-9][0-9]{0,59})"
+FORMS = {"come": f" {NUMBER} ([^ ]*)", "leave": f" {NUMBER}", "call": "", "enter": f" {NUMBER}" * 4,
+         "rule": f" {NUMBER}" * 5, "amend": f" {NUMBER}" * 2, "ruling": f" {NUMBER}" * 3, "strike": f" {NUMBER}"}
 METHODS = {"ruling": "amend_ruling"}
-ALL_WORDS = ("come", "leave", "call", "enter", "rule", "amend", "ruling", "strike")
+ALL_WORDS = tuple(FORMS)
 
 
 def do(evening, deed):
     """Does a deed on an evening of the program; what it tells."""
     return getattr(evening, METHODS.get(deed[0], deed[0]))(*deed[1:])
+
+
+def deed_in(row):
+    """The deed that a row writes, or None."""
+    for word, form in FORMS.items():
+        found = re.fullmatch(word + form, row)
+        if found:
+            name_at = 1 if word == "come" else None
+            return (word,) + tuple(part if at == name_at else int(part) for at, part in enumerate(found.groups()))
+    return None
+
+
+def fraction(told):
+    """A told fraction as one of Python's own, where it is in lowest terms."""
+    over, under = told
+    assert type(told) is tuple and under > 0 and gcd(over, under) == 1, told
+    return Fraction(over, under)
 
 
 def outcome(ask):
@@ -335,13 +356,23 @@ class Drawer:
         return ("strike", self.number(len(state.slips)))
 
 
+def draw_step(drawer, evening, model, back):
+    """Does a drawn deed if it is good, or, as often as back tells, takes one back or does one again."""
+    if drawer.chance.random() < back:
+        word = drawer.chance.choice(["undo", "redo"])
+        if getattr(model, word)()[0] == "told":
+            getattr(evening, word)()
+    else:
+        deed = drawer.deed(model.state())
+        if model.do(deed)[0] == "told":
+            do(evening, deed)
+
+
 def drawn_evening(kind, tables, packets, seed, steps):
     """An evening of drawn deeds behind which all is as its model has it, and that model."""
     drawer = Drawer(seed)
     absent = drawer.chance.sample(range(2 * tables), drawer.chance.choice([0, 0, 1, 2]))
     evening, model = both(kind, tables, packets, all_come(2 * tables, absent))
     for _ in range(steps):
-        deed = drawer.deed(model.state())
-        if model.do(deed)[0] == "told":
-            do(evening, deed)
+        draw_step(drawer, evening, model, 0)
     return evening, model

@@ -75,6 +75,17 @@ def walkers(tree):
             yield from node.args[:1]
 
 
+def readers(part):
+    """The things that a part of a tree only reads: by an index, by in, by get."""
+    if isinstance(part, ast.Subscript) and isinstance(part.ctx, ast.Load):
+        return [part.value]
+    if isinstance(part, ast.Compare) and isinstance(part.ops[0], (ast.In, ast.NotIn)):
+        return part.comparators
+    if isinstance(part, ast.Attribute) and part.attr == "get":
+        return [part.value]
+    return []
+
+
 def drawn_files(tree):
     """The files that a file draws from, each with the name that is drawn."""
     rows = [node for node in tree.body if isinstance(node, ast.ImportFrom)]
@@ -180,6 +191,40 @@ class Forms(unittest.TestCase):
             for part in node.body:
                 docstring = isinstance(part, ast.Expr) and isinstance(part.value, ast.Constant)
                 self.assertTrue(docstring or isinstance(part, ast.FunctionDef), (name, node.name))
+
+
+    def test_errors_are_raised_on_the_spot_and_taken_by_name(self):
+        classes = {node.name for _, node in nodes(ast.ClassDef)}
+        for name, node in nodes(ast.Raise):
+            self.assertIsInstance(node.exc, ast.Call, (name, node.lineno))
+            self.assertIn(node.exc.func.id, classes, (name, node.lineno))
+        for name, node in nodes(ast.ExceptHandler):
+            self.assertIsInstance(node.type, ast.Name, (name, node.lineno))
+            self.assertIn(node.type.id, classes, (name, node.lineno))
+
+    def test_exponents_are_written(self):
+        for name, node in nodes(ast.BinOp):
+            if isinstance(node.op, ast.Pow):
+                self.assertIsInstance(node.right, ast.Constant, (name, node.lineno))
+                self.assertIn(node.right.value, range(65))
+
+    def test_lists_and_dicts_of_the_top_are_only_read(self):
+        for path, tree in TREES:
+            tops = [node for node in tree.body if isinstance(node, ast.Assign)]
+            kept = {node.targets[0].id for node in tops if isinstance(node.value, (ast.List, ast.Dict))}
+            read = {id(node) for part in ast.walk(tree) for node in readers(part)}
+            for node in ast.walk(tree):
+                if isinstance(node, ast.Name) and isinstance(node.ctx, ast.Load) and node.id in kept:
+                    self.assertIn(id(node), read, (path.name, node.lineno))
+
+    def test_sets_stand_where_they_may(self):
+        for path, tree in TREES:
+            asked = [node.args[0] for node in ast.walk(tree) if isinstance(node, ast.Call) and node.args
+                     and isinstance(node.func, ast.Name) and node.func.id in ("len", "sorted")]
+            for node in ast.walk(tree):
+                if isinstance(node, ast.Call) and isinstance(node.func, ast.Name) and node.func.id == "set":
+                    self.assertIn(node, asked, (path.name, node.lineno))
+                self.assertNotIsInstance(node, (ast.Set, ast.SetComp), path.name)
 
 
 class Names(unittest.TestCase):
